@@ -1,0 +1,82 @@
+"""Rules of LANGUAGE.md that can be read off the files: L1, L2, L3, L8, L10, L14 and L16."""
+
+import ast
+import builtins
+import os
+import unittest
+
+PACKAGE = os.path.join(os.path.dirname(os.path.dirname(os.path.abspath(__file__))), "trulymade")
+LIBRARY = ("__future__", "collections", "heapq", "itertools", "math")
+LISTED = """len range enumerate zip min max sum abs sorted reversed int str bool bytes list tuple
+dict set frozenset isinstance ord repr any all divmod pow getattr hasattr setattr iter next map type
+super ValueError TypeError KeyError IndexError LookupError""".split()
+
+
+def package_files():
+    return sorted(name for name in os.listdir(PACKAGE) if name != "__pycache__")
+
+
+def text_of(name):
+    with open(os.path.join(PACKAGE, name), encoding="utf-8") as file:
+        return file.read()
+
+
+def parts(tree, *kinds):
+    return [part for part in ast.walk(tree) if isinstance(part, kinds)]
+
+
+def names_of(name):
+    """What a file defines itself at module level."""
+    body = ast.parse(text_of(name)).body
+    defined = [part.name for part in body if isinstance(part, (ast.FunctionDef, ast.ClassDef))]
+    return defined + [part.targets[0].id for part in body if isinstance(part, ast.Assign)]
+
+
+class TestLanguage(unittest.TestCase):
+    def test_only_python_files(self):
+        self.assertIn("__init__.py", package_files())
+        for name in package_files():
+            self.assertTrue(name.endswith(".py") and name == name.lower(), name)
+
+    def test_lengths_and_characters(self):
+        for name in package_files():
+            text = text_of(name)
+            self.assertLessEqual(set(text), set(map(chr, range(32, 127))) | {"\n"}, name)
+            self.assertLessEqual(len(text.splitlines()), 399, name)
+            self.assertLessEqual(max(map(len, text.splitlines())), 120, name)
+            for part in parts(ast.parse(text), ast.FunctionDef):
+                self.assertLessEqual(part.end_lineno - part.lineno + 1, 40, part.name)
+
+    def test_what_stands_at_module_level(self):
+        for name in package_files():
+            tree = ast.parse(text_of(name))
+            self.assertIsNotNone(ast.get_docstring(tree), name)
+            for part in tree.body[1:]:
+                self.assertIsInstance(part, (ast.ImportFrom, ast.FunctionDef, ast.ClassDef,
+                                             ast.Assign), name)
+
+    def test_imports_name_the_defining_file(self):
+        for name in package_files():
+            tree = ast.parse(text_of(name))
+            self.assertEqual(parts(tree, ast.Import), [], name)
+            for part in parts(tree, ast.ImportFrom):
+                self.assertIn(part, tree.body, name)
+                self.assertEqual(part.level, 0, name)
+                if part.module in LIBRARY:
+                    continue
+                folder, _, module = part.module.partition(".")
+                self.assertEqual(folder, "trulymade", name)
+                for alias in part.names:
+                    self.assertIn(alias.name, names_of(module + ".py"), name)
+
+    def test_only_listed_builtins(self):
+        for name in package_files():
+            own = names_of(name)
+            for part in parts(ast.parse(text_of(name)), ast.Call):
+                if isinstance(part.func, ast.Name) and hasattr(builtins, part.func.id):
+                    self.assertIn(part.func.id, LISTED, name)
+                    self.assertNotIn(part.func.id, own, name)
+
+
+if __name__ == "__main__":
+    unittest.main()

@@ -1,0 +1,1 @@
+"""Trulymade: things made by things, and whether they are what they claim to be."""
