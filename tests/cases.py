@@ -3,8 +3,12 @@
 import random
 import unittest
 
+from trulymade.books import Book
+from trulymade.closing import Closing
 from trulymade.errors import MadeError
-from trulymade.rules import Rules
+from trulymade.rows import thing_of
+from trulymade.rules import Rules, body_for
+from trulymade.running import Machine
 
 
 def nested(depth):
@@ -14,14 +18,20 @@ def nested(depth):
     return value
 
 
+EMPTY_BOOK = Book((), (), (), (), (), (), 0)
+
 # What is neither a list nor a tuple, and so no row of anything.
 NO_LISTS = [None, True, False, 0, 3, -1, 10 ** 400, "", "ab", "0 1\n2", {}, {0: 1, 1: 2},
-            Rules((1, 2, 3))]
+            Rules((1, 2, 3)), EMPTY_BOOK, Closing(EMPTY_BOOK, (), None), Machine((0, 0), ())]
 
 NO_SIGNS = [-1, 100, 119, 10 ** 400, -10 ** 400, None, True, False, "", "1", "a\nb", [], [1],
             (), (1,), {}, {1: 1}, nested(20), Rules((5,))]
 
 NO_FORMS = NO_SIGNS + [5, 99]
+
+NO_NAMES = [None, True, False, 0, 7, -1, 10 ** 400, "", " ", "A", "aB", "a1", "1", "a b", "a ", " a",
+            "a\n", "\n", "a-b", "a_b", "abcdefghi", "a" * 10 ** 5, "`", "{", "\u00e9", (), ("a",), [],
+            ["a"], {}, {"a": 1}, nested(20), Rules((5,)), EMPTY_BOOK]
 
 
 def rows_with(wrong):
@@ -70,6 +80,17 @@ def random_rule(lot):
 def random_rules(seed):
     lot = random.Random(seed)
     return tuple(random_rule(lot) for _ in range(lot.randint(0, 6)))
+
+
+def made(rules, start=0, form=0, number=0):
+    """A thing with these rules."""
+    return thing_of(form, number, body_for(start, rules))
+
+
+def sized(rules, size):
+    """A thing with these rules and so many signs in its body; what is behind them is no rule."""
+    body = body_for(0, rules)
+    return (0, 0) + body + (99,) * (size - len(body))
 
 
 class Case(unittest.TestCase):

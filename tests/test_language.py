@@ -1,4 +1,4 @@
-"""Rules of LANGUAGE.md that can be read off the files: L1, L2, L3, L8, L10, L14 and L16."""
+"""Rules of LANGUAGE.md that can be read off the files: L1 to L3, L7, L8, L10, L14 to L18 and L20."""
 
 import ast
 import builtins
@@ -10,6 +10,10 @@ LIBRARY = ("__future__", "collections", "heapq", "itertools", "math")
 LISTED = """len range enumerate zip min max sum abs sorted reversed int str bool bytes list tuple
 dict set frozenset isinstance ord repr any all divmod pow getattr hasattr setattr iter next map type
 super ValueError TypeError KeyError IndexError LookupError""".split()
+
+BARRED = """register mro elements open input law version_info with_traceback add_note attrgetter breakpoint
+builtins compile copyright credits delattr dir eval exec exit gc globals help id importlib license locals
+methodcaller os quit vars sys typing enum dataclass overload format format_map""".split()
 
 
 def package_files():
@@ -76,6 +80,59 @@ class TestLanguage(unittest.TestCase):
                 if isinstance(part.func, ast.Name) and hasattr(builtins, part.func.id):
                     self.assertIn(part.func.id, LISTED, name)
                     self.assertNotIn(part.func.id, own, name)
+
+    def test_names_of_parameters_and_variables(self):
+        for name in package_files():
+            tree = ast.parse(text_of(name))
+            taken = [alias.name for part in parts(tree, ast.ImportFrom) for alias in part.names]
+            taken += [part.name for part in tree.body if isinstance(part, ast.ClassDef)] + dir(builtins)
+            for part in parts(tree, ast.FunctionDef):
+                for local in locals_of(part):
+                    self.assertNotIn(local, taken, (name, part.name))
+
+    def test_words_that_are_not_used(self):
+        for name in package_files():
+            tree = ast.parse(text_of(name))
+            for part in parts(tree, ast.Name, ast.Attribute, ast.arg, ast.FunctionDef, ast.ClassDef):
+                for field in ("id", "attr", "arg", "name"):
+                    self.assertNotIn(getattr(part, field, None), BARRED, name)
+
+    def test_what_the_subset_leaves_out(self):
+        barred = (ast.GeneratorExp, ast.Global, ast.AsyncFunctionDef, ast.Await, ast.Div, ast.Pow)
+        for name in package_files():
+            tree = ast.parse(text_of(name))
+            self.assertEqual(parts(tree, *barred), [], name)
+            for part in parts(tree, ast.Compare):
+                if any(isinstance(sign, (ast.Is, ast.IsNot)) for sign in part.ops):
+                    self.assertIsInstance(part.comparators[0], ast.Constant, name)
+            for part in parts(tree, ast.Constant):
+                self.assertFalse(isinstance(part.value, (float, bytes)), name)
+
+    def test_no_name_is_a_method_and_an_attribute(self):
+        for name in package_files():
+            for part in parts(ast.parse(text_of(name)), ast.ClassDef):
+                methods = [inner.name for inner in part.body if isinstance(inner, ast.FunctionDef)]
+                self.assertEqual(len(methods), len(set(methods)), name)
+                for inner in parts(part, ast.Attribute):
+                    if isinstance(inner.ctx, ast.Store):
+                        self.assertNotIn(inner.attr, methods, name)
+
+    def test_no_two_files_import_from_each_other(self):
+        imports = {}
+        for name in package_files():
+            found = parts(ast.parse(text_of(name)), ast.ImportFrom)
+            imports[name] = {part.module.partition(".")[2] + ".py" for part in found if part.module not in LIBRARY}
+        while imports:
+            free = [name for name in imports if not imports[name] & set(imports)]
+            self.assertNotEqual(free, [], imports)
+            for name in free:
+                del imports[name]
+
+
+def locals_of(function):
+    """The parameters and variables of a function, those of its comprehensions too."""
+    found = [part.arg for part in parts(function, ast.arg)]
+    return found + [part.id for part in parts(function, ast.Name) if isinstance(part.ctx, ast.Store)]
 
 
 if __name__ == "__main__":
