@@ -20,10 +20,8 @@ class Closing:
         self._book = book
         self._kept = tuple(kept)
         self._leaders = {name: name for name, _ in book.things}
-        told = [book.notes[at] for at in kept]
-        told.extend(made_facts(book, told))
-        if said is not None:
-            told.append(said)
+        notes = [book.notes[at] for at in kept]
+        told = notes + made_facts(book, notes) + ([] if said is None else [said])
         self._rights = [fact[1:] for fact in told if fact[0] == "right"]
         self._gifts = [fact[1:] for fact in told if fact[0] == "gives"]
         for fact in told:
