@@ -30,7 +30,9 @@ class Book:
         self.lies = lies
 
     def __eq__(self, other):
-        return isinstance(other, Book) and self._parts() == other._parts()
+        return (isinstance(other, Book) and self.things == other.things and self.scraps == other.scraps
+                and self.hosts == other.hosts and self.makings == other.makings and self.notes == other.notes
+                and self.doubtful == other.doubtful and self.lies == other.lies)
 
     def form(self, name):
         """The form of a thing or a host, None for a scrap."""

@@ -27,10 +27,10 @@ class Outputs:
         self.start = program.start
         self._program = program
         self._named = {}
-        self._parts = {}
+        self._pieces = {}
         self._owns = {}
         for stand, word in program.taken:
-            self._parts[(stand, word)] = self._rule_parts(program.taken[(stand, word)])
+            self._pieces[(stand, word)] = self._rule_parts(program.taken[(stand, word)])
             if word != "other" and word != "end":
                 self._named.setdefault(stand, []).append(word)
 
@@ -43,12 +43,12 @@ class Outputs:
         rule = self._program.rule_for(stand, sign)
         if rule is None:
             return "", STOPPED
-        parts = self._parts[(stand, rule[1])]
+        parts = self._pieces[(stand, rule[1])]
         return "".join([part_text(part, sign) for part in parts]), rule[3]
 
     def ending(self, stand):
         """The text that is written at the end of a row."""
-        return "".join(self._parts.get((stand, "end"), ()))
+        return "".join(self._pieces.get((stand, "end"), ()))
 
     def along(self, row):
         """The text that is written for a row ahead of its end, and the stand there."""
