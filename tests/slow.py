@@ -1,6 +1,6 @@
-"""Points [6], [9], [12], [13] and [23] once more, as plainly and slowly as their words say."""
+"""Points [6], [9], [12], [13], [22], [23], [27] and [28] once more, as plainly and slowly as their words say."""
 
-from itertools import product
+from itertools import combinations, product
 
 EVERY = tuple(range(100))
 
@@ -143,3 +143,85 @@ def clash(forms, one, two):
     if one[0] == "right" and two[0] == "gives" and one[1] == two[1] and forms[two[2]] == one[2]:
         return forms.get(two[3]) != one[3]
     return False
+
+
+def let_kepts(book):
+    """What is kept without each let lot."""
+    return [tuple(at for at in range(len(book.notes)) if at not in lot)
+            for lot in combinations(book.doubtful, book.lies)]
+
+
+def bears(book, kept, claim):
+    if claim[0] == "apart":
+        return facts(book, kept, ("as",) + claim[1:])[1]
+    found, clashes = facts(book, kept, None)
+    return clashes or claim in found
+
+
+def bars(book, kept, claim):
+    return facts(book, kept, claim)[1]
+
+
+def answer(book, claim):
+    sure = all(bears(book, kept, claim) for kept in let_kepts(book))
+    never = all(bars(book, kept, claim) for kept in let_kepts(book))
+    return {(True, True): "broken", (True, False): "sure", (False, True): "never", (False, False): "open"}[sure, never]
+
+
+def is_chain(book, kept, claim, word, chain):
+    """Of a tuple of tuples (fact, reason), in which all are tuples of strings and integers that are no flags."""
+    if (word == "bears") == (claim[0] == "apart"):
+        said = ("as",) + claim[1:] if claim[0] == "apart" else claim
+        lasts = [("clash",)]
+    else:
+        said = None
+        lasts = [("clash",), ("as",) + claim[1:] if claim[0] == "apart" else claim]
+    known = []
+    for fact, reason in chain:
+        if fact != ("clash",) and (fact[0] not in ("as", "right", "gives") or not book.has_claim(fact)):
+            return False
+        try:
+            good = stands(book, kept, said, known, fact, reason)
+        except (IndexError, ValueError, TypeError):
+            return False
+        if not good:
+            return False
+        known.append(fact)
+    return known != [] and known[-1] in lasts
+
+
+def stands(book, kept, said, known, fact, reason):
+    word, *rest = reason
+    if min([at for at in rest] + [0]) < 0:
+        return False
+    if word in ("note", "made", "against") and rest[-1] not in kept:
+        return False
+    forms = dict(book.things)
+    one = known[rest[0]] if word not in ("note", "made", "self", "said") else None
+    other = known[rest[1]] if word in ("join", "carry", "led", "two", "unfit", "ways") else None
+    if len(rest) != {"self": 0, "said": 0, "note": 1, "turn": 1}.get(word, 2):
+        return False
+    if word in ("self", "said", "note"):
+        return {"self": fact[0] == "as" and fact[1:2] == fact[2:], "said": said is not None and fact == said,
+                "note": word == "note" and fact == book.notes[rest[0]]}[word]
+    if word == "made":
+        making = book.makings[rest[0]]
+        return book.notes[rest[1]] == ("host", making[0]) and fact == ("gives",) + making[1:]
+    if word == "against":
+        note = book.notes[rest[1]]
+        return one[0] == "as" and note[0] == "apart" and sorted(one[1:]) == sorted(note[1:]) and fact == ("clash",)
+    if word == "turn":
+        return one[0] == "as" and fact == ("as", one[2], one[1])
+    if word == "join":
+        return one[0] == other[0] == "as" and one[2] == other[1] and fact == ("as", one[1], other[2])
+    if word == "carry":
+        return (one[0] == "as" and other[0] in ("right", "gives") and one[1] == other[1]
+                and fact == (other[0], one[2]) + other[2:])
+    if word in ("two", "ways"):
+        kind = {"two": "gives", "ways": "right"}[word]
+        return (one[0] == other[0] == kind and one[1:3] == other[1:3] and one[3] != other[3]
+                and fact == ("clash",))
+    if (one[0], other[0]) != ("right", "gives") or one[1] != other[1] or forms[other[2]] != one[2]:
+        return False
+    fitting = forms.get(other[3]) == one[3]
+    return {"led": fitting and fact == ("as", other[3], other[2]), "unfit": not fitting and fact == ("clash",)}[word]

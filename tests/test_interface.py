@@ -17,6 +17,10 @@ FUNCTIONS = {
     "booktexts": "write_book(book) read_book(text)",
     "closing": "",
     "worlds": "is_world(book,thing) holds(book,world,claim)",
+    "building": "world_with(book,claim) world_without(book,claim) some_world(book)",
+    "answers": "answer(book,claim) fits(book) surely_alike(book)",
+    "chains": "chain(book,kept,claim,word) is_chain(book,kept,claim,word,thing) notes_used(book,thing)",
+    "papers": "paper(book,claim) is_paper(book,claim,word,thing) broken_paper(book) is_broken_paper(book,thing)",
 }
 
 CLASSES = {

@@ -2,14 +2,15 @@
 
 from trulymade.books import check_book, check_claim, check_kept
 from trulymade.errors import BadName
+from trulymade.rows import FORMS
 
 
 class Closing:
     """The facts that follow, and whether they clash.
 
     A class of things that are the same is known by the one of them that
-    leads it. What makers are and give is kept as it was told, each fact for
-    the thing of which it was told: it counts for the whole class.
+    leads it. What makers are and give counts for the whole class, so it is
+    kept under the leader.
     """
 
     def __init__(self, book, kept, said):
@@ -22,15 +23,17 @@ class Closing:
         self._leaders = {name: name for name, _ in book.things}
         notes = [book.notes[at] for at in kept]
         told = notes + made_facts(book, notes) + ([] if said is None else [said])
-        self._rights = [fact[1:] for fact in told if fact[0] == "right"]
-        self._gifts = [fact[1:] for fact in told if fact[0] == "gives"]
+        rights = [fact[1:] for fact in told if fact[0] == "right"]
+        gifts = [fact[1:] for fact in told if fact[0] == "gives"]
         for fact in told:
             if fact[0] == "as":
                 self._join(fact[1], fact[2])
-        while self._join_what_is_led():
+        while self._join_what_is_led(rights, gifts):
             pass
+        self._targets = self._by_class(rights)
+        self._gifts = self._by_class(gifts)
         parted = [fact for fact in told if fact[0] == "apart" and self._one_class(fact[1], fact[2])]
-        self._clash = bool(parted) or self._has_two_outcomes() or self._is_unfit() or self._has_two_ways()
+        self._clash = bool(parted) or self._has_two_of_one() or self._is_unfit(gifts)
 
     def same(self, a, b):
         """Whether the two things are the same."""
@@ -50,17 +53,23 @@ class Closing:
             return claim[2:] in self.ways(claim[1])
         if claim[0] == "gives":
             return claim[3] in self.outcomes(claim[1], claim[2])
-        return Closing(self._book, self._kept, ("as", claim[1], claim[2])).clashes()
+        return not self.allows(("as", claim[1], claim[2]))
+
+    def allows(self, claim):
+        """Whether the same kept notes do not clash if this claim is said instead of what was said."""
+        return not Closing(self._book, self._kept, claim).clashes()
 
     def ways(self, a):
         """The ascending list of the tuples (source, target) from and to which the thing is right."""
         self._check_things((a,))
-        return sorted({(source, target) for b, source, target in self._rights if self._one_class(a, b)})
+        leader = self._leaders[a]
+        return [(source, target) for source in range(FORMS)
+                for target in sorted(self._targets.get((leader, source), {}))]
 
     def outcomes(self, a, x):
         """The ascending list of all that the one thing gives for the other."""
         self._check_things((a, x))
-        return sorted({y for b, read, y in self._gifts if read == x and self._one_class(a, b)})
+        return sorted(self._gifts.get((self._leaders[a], x), {}))
 
     def classes(self):
         """The ascending list of the ascending tuples of things that are the same."""
@@ -81,37 +90,42 @@ class Closing:
 
     def _join(self, a, b):
         """Make one class of those of the two things."""
+        leader = self._leaders[a]
         joined = self._leaders[b]
         for name in list(self._leaders):
             if self._leaders[name] == joined:
-                self._leaders[name] = self._leaders[a]
+                self._leaders[name] = leader
 
-    def _leadings(self):
-        """The list of all (target, x, y) where what is right for x, to target, gives y for it."""
-        return [(target, x, y) for a, source, target in self._rights for b, x, y in self._gifts
-                if self._one_class(a, b) and self._book.form(x) == source]
+    def _by_class(self, facts):
+        """A dict from the tuples (leader, second) of facts (a, second, third) to dicts that have all their thirds."""
+        found = {}
+        for a, second, third in facts:
+            found.setdefault((self._leaders[a], second), {})[third] = True
+        return found
 
-    def _join_what_is_led(self):
+    def _targets_for(self, targets, a, x):
+        """The dict of the targets to which the thing a is right from the form of x."""
+        return targets.get((self._leaders[a], self._book.form(x)), {})
+
+    def _join_what_is_led(self, rights, gifts):
         """Join what was led to its form with what it was made of: whether anything was joined."""
-        for target, x, y in self._leadings():
-            if self._book.form(y) == target and not self._one_class(x, y):
+        joined = False
+        targets = self._by_class(rights)
+        for a, x, y in gifts:
+            if self._book.form(y) in self._targets_for(targets, a, x) and not self._one_class(x, y):
                 self._join(x, y)
-                return True
-        return False
+                joined = True
+        return joined
 
-    def _is_unfit(self):
+    def _has_two_of_one(self):
+        """Whether things of one class give unlike rows for one thing, or are right from one form to unlike ones."""
+        found = list(self._targets.values()) + list(self._gifts.values())
+        return any([len(thirds) > 1 for thirds in found])
+
+    def _is_unfit(self, gifts):
         """Whether a right maker gives what is no thing of its target."""
-        return any([self._book.form(y) != target for target, x, y in self._leadings()])
-
-    def _has_two_outcomes(self):
-        """Whether things of one class give unlike rows for one thing."""
-        return any([x == other_x and y != other_y and self._one_class(a, b)
-                    for a, x, y in self._gifts for b, other_x, other_y in self._gifts])
-
-    def _has_two_ways(self):
-        """Whether things of one class are right from one form to unlike ones."""
-        return any([source == other_source and target != other_target and self._one_class(a, b)
-                    for a, source, target in self._rights for b, other_source, other_target in self._rights])
+        return any([target != self._book.form(y)
+                    for a, x, y in gifts for target in self._targets_for(self._targets, a, x)])
 
 
 def made_facts(book, notes):
