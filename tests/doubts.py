@@ -76,3 +76,34 @@ ANSWERS = {
 
 # The same with a note that clashes with a sure one.
 BROKEN = told(ANSWERED.makings, ANSWERED.notes + (("right", "a", 0, 4),), (5, 6, 7), 3)
+
+# m leads from 0 to 1, and from 3 to 0; n from 1 to 2, but it must be led by m to form 0 before it can run; o from 2 to
+# 3; p from 0 to 4, but it can never run, as no host runs what is of form 4. The hosts are doubtful, or without a note.
+MAKERS = Book(
+    [("m", 0), ("n", 3), ("o", 2), ("p", 4), ("x", 0), ("y", 1), ("q", 0)], ["rag"],
+    [("h", 0), ("i", 1), ("j", 2), ("k", 2), ("free", 4)], [],
+    [("right", "m", 0, 1), ("right", "m", 3, 0), ("right", "n", 1, 2), ("right", "o", 2, 3), ("right", "p", 0, 4),
+     ("host", "h"), ("host", "i"), ("host", "j"), ("as", "m", "y"), ("apart", "m", "n")], [5, 6, 7, 8], 0)
+
+
+def planned_book(lot):
+    """A book by lot with few things, many ways and hosts that can be trusted, so that much can be had."""
+    things = [(name, lot.choice((0, 0, 1, 2))) for name in "abcde"]
+    hosts = [("h", 0), ("i", 1), ("j", 2), ("k", lot.randint(0, 2))]
+    notes = [("host", name) for name, _ in hosts if lot.random() < 0.7]
+    for name, _ in things[:lot.randint(1, 4)]:
+        source = lot.randint(0, 4)
+        notes.append(("right", name, source, (source + lot.choice((0, 1, 1, 2, 4))) % 5))
+        if lot.random() < 0.5:
+            notes.append(("right", name, (source + 1) % 5, lot.randint(0, 4)))
+    if lot.random() < 0.4:
+        notes.append(("as", "e", lot.choice("abcd")))
+    makings = []
+    for _ in range(lot.randint(0, 3)):
+        host, form = lot.choice(hosts)
+        makers = [name for name, own in things if own == form]
+        if makers:
+            makings.append((host, lot.choice(makers), lot.choice("abcde"), lot.choice("abcder")))
+    lot.shuffle(notes)
+    doubtful = sorted(lot.sample(range(len(notes)), lot.randint(0, min(6, len(notes)))))
+    return Book(things, ["r"], hosts, list(dict.fromkeys(makings)), notes, doubtful, lot.randint(0, len(doubtful)))

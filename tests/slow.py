@@ -1,4 +1,4 @@
-"""Points [6], [9], [12], [13], [22], [23], [27] and [28] once more, as plainly and slowly as their words say."""
+"""Points [6], [9], [12], [13], [22], [23], [27], [28], [31] and [32] once more, plainly and slowly."""
 
 from itertools import combinations, product
 
@@ -225,3 +225,57 @@ def stands(book, kept, said, known, fact, reason):
         return False
     fitting = forms.get(other[3]) == one[3]
     return {"led": fitting and fact == ("as", other[3], other[2]), "unfit": not fitting and fact == ("clash",)}[word]
+
+
+def had(book, kept):
+    """As point [31] has it, a class known by the set of its things."""
+    found = facts(book, kept, None)[0]
+    forms = dict(book.things)
+    classes = {name: frozenset(b for b in forms if ("as", name, b) in found) for name in forms}
+    trusted = [form for host, form in book.hosts if ("host", host) in [book.notes[at] for at in kept]]
+    ways = {(classes[fact[1]],) + fact[2:] for fact in found if fact[0] == "right"}
+    depths = {(classes[name], form): 0 for name, form in book.things}
+    while True:
+        more = dict(depths)
+        for maker, source, target in ways:
+            for made in set(classes.values()):
+                at_hand = [depths[maker, form] for form in trusted if (maker, form) in depths]
+                if at_hand and (made, source) in depths:
+                    depth = 1 + max(min(at_hand), depths[made, source])
+                    more[made, target] = min(depth, more.get((made, target), depth))
+        if more == depths:
+            return {(name, form): depths[classes[name], form]
+                    for name in forms for form in range(5) if (classes[name], form) in depths}
+        depths = more
+
+
+def is_plan(book, kept, name, form, planned):
+    """Of a tuple of tuples of four names and a form; each grown book is closed anew."""
+    things, makings = list(book.things), list(book.makings)
+    hosts = dict(book.hosts)
+    trusted = [host for host in hosts if ("host", host) in [book.notes[at] for at in kept]]
+    taken = [*dict(things), *book.scraps, *hosts]
+    for host, maker, thing, outcome, target in planned:
+        forms = dict(things)
+        if host not in trusted or maker not in forms or thing not in forms or forms[maker] != hosts[host]:
+            return False
+        found = facts(Grown(book, things, makings), kept, None)[0]
+        if ("right", maker, forms[thing], target) not in found or outcome in taken:
+            return False
+        if any(fact[:3] == ("gives", maker, thing) for fact in found):
+            return False
+        last = target == form and ("as", name, thing) in found
+        things.append((outcome, target))
+        makings.append((host, maker, thing, outcome))
+        taken.append(outcome)
+    if not planned:
+        found = facts(book, kept, None)[0]
+        return any(("as", name, other) in found and own == form for other, own in things)
+    return last
+
+
+class Grown:
+    """A book as facts reads it, without the bounds of a book."""
+
+    def __init__(self, book, things, makings):
+        self.things, self.makings, self.notes = things, makings, book.notes

@@ -387,7 +387,8 @@ class TestChain(Case):
                     [("h", "ta", name, name) for name in names] + [("h", "tp", "ta", "r")],
                     notes + [("right", "tg", 0, 0), ("host", "h")], (), 0)
         for claim, word in ((("as", "ta", "tp"), "bears"), (("apart", "ta", "tp"), "bars"),
-                            (("right", "tp", 0, 0), "bears"), (("gives", "tp", "tg", "tg"), "bears"), (("gives", "tp", "tg", "th"), "bars"),
+                            (("right", "tp", 0, 0), "bears"), (("gives", "tp", "tg", "tg"), "bears"),
+                            (("gives", "tp", "tg", "th"), "bars"),
                             (("right", "tp", 0, 1), "bars"), (("apart", "tc", "td"), "bears")):
             for kept in (made.all_notes(), made.all_notes()[:-1]):
                 steps = chain(made, kept, claim, word)

@@ -1,4 +1,4 @@
-"""The part "The interface", as far as it is built: names, arguments, and where each one is defined."""
+"""The part "The interface": names, arguments, and where each one is defined."""
 
 import importlib
 import inspect
@@ -21,6 +21,11 @@ FUNCTIONS = {
     "answers": "answer(book,claim) fits(book) surely_alike(book)",
     "chains": "chain(book,kept,claim,word) is_chain(book,kept,claim,word,thing) notes_used(book,thing)",
     "papers": "paper(book,claim) is_paper(book,claim,word,thing) broken_paper(book) is_broken_paper(book,thing)",
+    "lots": "bearing(book,claim) barring(book,claim) undoing(book,claim) blame(book) margin(book,claim)",
+    "plans": "had(book,kept) plan(book,kept,thing,form) is_plan(book,kept,name,form,thing) depth_of(planned)"
+             " grown(book,planned) seeds(book,name,form)",
+    "news": "changes(old,new,claims)",
+    "houses": "",
 }
 
 CLASSES = {
@@ -29,6 +34,9 @@ CLASSES = {
     ("books", "Book"): "__init__(things,scraps,hosts,makings,notes,doubtful,lies) __eq__(other) form(name) all_notes()"
                        " sure_notes() with_thing(name,form) with_scrap(name) with_host(name,form) with_making(making)"
                        " with_note(note,doubt) without_note(at) with_lies(lies)",
+    ("houses", "House"): "__init__() put(name,row) host(name,form) bend(host,maker,thing,row) note(note,doubt)"
+                         " withdraw(at) allow(n) undo() make(host,maker,thing,name) book() names() false_notes()"
+                         " row_of(name) world() ask(claim) really(claim) trying(deed)",
     ("closing", "Closing"): "__init__(book,kept,said) same(a,b) clashes() has(claim) ways(a) outcomes(a,x) classes()",
 }
 

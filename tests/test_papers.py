@@ -168,7 +168,8 @@ class TestIsPaper(Case):
 
     def test_what_is_no_paper(self):
         for value in NO_LISTS + [(), [AB, ACB], (list(AB), ACB), AB, (AB, None), (None, AB, ACB), ((AB, ACB),),
-                                 nested(20), (nested(20), AB, ACB), {AB: ACB}, (AB, ACB, THREE), (AB, ACB, {}), (AB, ACB, True)]:
+                                 nested(20), (nested(20), AB, ACB), {AB: ACB}, (AB, ACB, THREE),
+                                 (AB, ACB, {}), (AB, ACB, True)]:
             before = repr(value)
             for word in ("sure", "never"):
                 self.assertIs(is_paper(THREE, ("as", "a", "b"), word, value), False)

@@ -44,6 +44,14 @@ class Book:
         """Whether this is the name of a thing of the book."""
         return stands_in(self._known, name, ("things",))
 
+    def has_host(self, name):
+        """Whether this is the name of a host of the book."""
+        return stands_in(self._known, name, ("hosts",))
+
+    def has_name(self, name):
+        """Whether this is a name of the book."""
+        return stands_in(self._known, name, ("things", "scraps", "hosts"))
+
     def has_claim(self, value):
         """Whether this is a claim of the book."""
         return is_claim_of(self._known, value)

@@ -13,6 +13,27 @@ def lots_of(items, many):
     return found
 
 
+def least_lots(items, passes):
+    """The list of the lots that pass and have no other one that passes within them, by length, then as tuples.
+
+    What has a lot that passes within it must pass, too.
+    """
+    found = []
+    for many in range(len(items) + 1):
+        for lot in lots_of(items, many):
+            if not has_one_of(lot, found) and passes(lot):
+                found.append(lot)
+    return found
+
+
+def has_one_of(lot, lots):
+    """Whether one of these lots is within the lot."""
+    for inner in lots:
+        if not [at for at in inner if at not in lot]:
+            return True
+    return False
+
+
 def let_lots(book):
     """The list of the lots with as many doubtful notes as lies says."""
     return lots_of(book.doubtful, book.lies)
@@ -21,6 +42,11 @@ def let_lots(book):
 def kept_without(book, lot):
     """The tuple of all notes but those of the lot."""
     return tuple([at for at in book.all_notes() if at not in lot])
+
+
+def kept_with(book, lot):
+    """The tuple of the sure notes and those of the lot of doubtful ones."""
+    return tuple([at for at in book.all_notes() if at not in book.doubtful or at in lot])
 
 
 def sound_closings(book):
