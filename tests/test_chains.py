@@ -243,6 +243,31 @@ class TestIsChain(Case):
         needless = [(("as", name, name), ("self",)) for name in "abcdef"] * 300
         self.chain(True, ("as", "a", "c"), "bears", *needless, AC)
 
+    def test_each_word_over_all_pairs_of_facts(self):
+        # Facts of each kind that share names, so that only the word tells what they can lead to.
+        made = Book([("a", 0), ("b", 0), ("d", 1)], ["r"], [("h", 0)],
+                    [("h", "a", "b", "d"), ("h", "b", "a", "a"), ("h", "b", "b", "b"), ("h", "a", "b", "r")],
+                    [("as", "a", "b"), ("as", "b", "d"), ("right", "a", 0, 1), ("right", "b", 0, 0), ("right", "a", 0, 0),
+                     ("apart", "b", "a"), ("apart", "b", "d"), ("host", "h")], (), 0)
+        told_steps = [(note, ("note", at)) for at, note in enumerate(made.notes[:5])]
+        told_steps += [(("gives",) + making[1:], ("made", at, 7)) for at, making in enumerate(made.makings)]
+        told_steps.append((("as", "a", "a"), ("self",)))
+        facts = [("as", a, b) for a in "abd" for b in "abd"] + [CLASH, ("right", "b", 0, 1), ("right", "d", 0, 0)]
+        facts += [("gives", "b", "b", "d"), ("gives", "b", "b", "r"), ("gives", "d", "a", "a"), ("gives", "a", "b", "d")]
+        found = set()
+        for word in ("join", "carry", "led", "two", "unfit", "ways", "against", "turn", "made"):
+            for first in range(10):
+                for second in range(10 if word != "turn" else 1):
+                    reason = (word, first, second)[:2 if word == "turn" else 3]
+                    for fact in facts:
+                        steps = (*told_steps, (fact, reason))
+                        claim = ("as", "d", "d") if fact == CLASH else fact
+                        wanted = slow_is_chain(made, made.all_notes(), claim, "bears", steps)
+                        self.assertIs(is_chain(made, made.all_notes(), claim, "bears", steps), wanted, (reason, fact))
+                        if wanted:
+                            found.add(word)
+        self.assertEqual(len(found), 9)
+
     def test_what_a_slow_judge_tells(self):
         lot = random.Random(27)
         told_flags = []
